@@ -1,6 +1,9 @@
 package state
 
-import "backstep/api"
+import (
+	"backstep/api"
+	"backstep/wire"
+)
 
 // Encode returns the encoding of a state that fits the declarations.
 func Encode(vars []api.VarDecl, s api.State) ([]byte, api.Errno) {
@@ -19,22 +22,14 @@ func Encode(vars []api.VarDecl, s api.State) ([]byte, api.Errno) {
 }
 
 func appendLength(b []byte, n int) []byte {
-	return append(b, byte(n>>8), byte(n))
+	return wire.Append(b, 2, n)
 }
 
 func appendNumbers(b []byte, l []int) []byte {
 	for _, x := range l {
-		for shift := 56; shift >= 0; shift -= 8 {
-			b = append(b, byte(x>>shift))
-		}
+		b = wire.Append(b, 8, x)
 	}
 	return b
-}
-
-// reader takes numbers from the front of a byte string, and keeps the first error.
-type reader struct {
-	b   []byte
-	err api.Errno
 }
 
 // Decode returns the state with an encoding.
@@ -42,47 +37,29 @@ func Decode(vars []api.VarDecl, b []byte) (api.State, api.Errno) {
 	if !validDecls(vars) {
 		return api.State{}, api.ErrForm
 	}
-	r := reader{b: b}
+	r := wire.Reader{Rest: b}
 	s := api.State{Cells: make([][]int, len(vars))}
 	for i, v := range vars {
 		if v.Kind == api.Stack {
-			s.Cells[i] = r.list(api.MaxStack)
+			s.Cells[i] = list(&r, api.MaxStack)
 		} else {
-			s.Cells[i] = r.numbers(width(v))
+			s.Cells[i] = numbers(&r, width(v))
 		}
 	}
-	s.In = r.list(api.MaxTape)
-	s.Out = r.list(api.MaxTape)
-	if r.err == api.OK && len(r.b) > 0 {
-		r.err = api.ErrForm
-	}
-	if r.err != api.OK {
-		return api.State{}, r.err
+	s.In = list(&r, api.MaxTape)
+	s.Out = list(&r, api.MaxTape)
+	r.End()
+	if r.Err != api.OK {
+		return api.State{}, r.Err
 	}
 	return s, api.OK
 }
 
-// integer reads an integer of n bytes.
-func (r *reader) integer(n int) int {
-	if r.err == api.OK && len(r.b) < n {
-		r.err = api.ErrEnd
-	}
-	if r.err != api.OK {
-		return 0
-	}
-	x := 0
-	for _, c := range r.b[:n] {
-		x = x<<8 | int(c)
-	}
-	r.b = r.b[n:]
-	return x
-}
-
-func (r *reader) numbers(n int) []int {
+func numbers(r *wire.Reader, n int) []int {
 	var l []int
 	for range n {
-		x := r.integer(8)
-		if r.err != api.OK {
+		x := r.Integer(8)
+		if r.Err != api.OK {
 			return nil
 		}
 		l = append(l, x)
@@ -91,10 +68,10 @@ func (r *reader) numbers(n int) []int {
 }
 
 // list reads a length, which must not exceed most, and as many numbers.
-func (r *reader) list(most int) []int {
-	n := r.integer(2)
-	if r.err == api.OK && n > most {
-		r.err = api.ErrFull
+func list(r *wire.Reader, most int) []int {
+	n := r.Integer(2)
+	if n > most {
+		r.Fail(api.ErrFull)
 	}
-	return r.numbers(n)
+	return numbers(r, n)
 }
