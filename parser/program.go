@@ -4,7 +4,6 @@ import (
 	"math"
 
 	"backstep/api"
-	"backstep/arith"
 	"backstep/lexer"
 )
 
@@ -14,17 +13,17 @@ func (p *parser) program() api.Program {
 		p.room(len(prog.Vars), api.MaxVars)
 		prog.Vars = append(prog.Vars, p.decl())
 	}
-	for p.peek().Text == "proc" {
+	for p.Peek().Text == "proc" {
 		p.room(len(prog.Procs), api.MaxProcs)
 		prog.Procs = append(prog.Procs, p.proc())
 	}
-	p.expect("main")
+	p.Expect("main")
 	prog.Main = p.limitedBody()
 	return prog
 }
 
 func (p *parser) atDecl() bool {
-	switch p.peek().Text {
+	switch p.Peek().Text {
 	case "int", "array", "stack":
 		return true
 	}
@@ -32,26 +31,26 @@ func (p *parser) atDecl() bool {
 }
 
 func (p *parser) decl() api.VarDecl {
-	switch p.peek().Text {
+	switch p.Peek().Text {
 	case "int":
-		p.next()
-		return api.VarDecl{Name: p.name(), Kind: api.Int}
+		p.Next()
+		return api.VarDecl{Name: p.Name(), Kind: api.Int}
 	case "stack":
-		p.next()
-		return api.VarDecl{Name: p.name(), Kind: api.Stack}
+		p.Next()
+		return api.VarDecl{Name: p.Name(), Kind: api.Stack}
 	}
-	p.expect("array")
-	v := api.VarDecl{Name: p.name(), Kind: api.Array}
-	p.expect("[")
-	v.Len = p.number(1, api.MaxArray)
-	p.expect("]")
+	p.Expect("array")
+	v := api.VarDecl{Name: p.Name(), Kind: api.Array}
+	p.Expect("[")
+	v.Len = p.Number(1, api.MaxArray)
+	p.Expect("]")
 	return v
 }
 
 func (p *parser) proc() api.Proc {
-	p.expect("proc")
-	proc := api.Proc{Name: p.name()}
-	p.list(func(count int) {
+	p.Expect("proc")
+	proc := api.Proc{Name: p.Name()}
+	p.List(func(count int) {
 		if p.atDecl() {
 			p.room(count, api.MaxParams)
 		}
@@ -61,24 +60,9 @@ func (p *parser) proc() api.Proc {
 	return proc
 }
 
-// list parses a list in parentheses, whose elements are separated by commas; element is given the number of elements before it.
-func (p *parser) list(element func(count int)) {
-	p.expect("(")
-	if p.accept(")") {
-		return
-	}
-	for count := 0; p.err == api.OK; count++ {
-		element(count)
-		if !p.accept(",") {
-			p.expect(")")
-			return
-		}
-	}
-}
-
 // limitedBody parses the body of a procedure or of main.
 func (p *parser) limitedBody() api.Node {
-	pos := p.peek().Pos
+	pos := p.Peek().Pos
 	n := p.body()
 	p.limit(n, pos)
 	return n
@@ -86,16 +70,16 @@ func (p *parser) limitedBody() api.Node {
 
 func (p *parser) body() api.Node {
 	n := api.Node{Kind: api.Block}
-	p.expect("{")
-	for p.err == api.OK && !p.accept("}") {
+	p.Expect("{")
+	for p.Err == api.OK && !p.Accept("}") {
 		n.Kids = append(n.Kids, p.stmt())
-		p.expect(";")
+		p.Expect(";")
 	}
 	return n
 }
 
 func (p *parser) stmt() api.Node {
-	switch p.peek().Text {
+	switch p.Peek().Text {
 	case "push":
 		return p.transfer(api.Push)
 	case "pop":
@@ -124,57 +108,57 @@ func (p *parser) stmt() api.Node {
 
 func (p *parser) transfer(kind byte) api.Node {
 	n := p.single(kind)
-	p.expect(",")
-	n.Name = p.name()
+	p.Expect(",")
+	n.Name = p.Name()
 	return n
 }
 
 func (p *parser) single(kind byte) api.Node {
-	p.next()
+	p.Next()
 	return api.Node{Kind: kind, Kids: []api.Node{p.place()}}
 }
 
 func (p *parser) call(kind byte) api.Node {
-	p.next()
-	n := api.Node{Kind: kind, Name: p.name()}
-	p.list(func(count int) {
-		if lexer.Name(p.peek().Text) {
+	p.Next()
+	n := api.Node{Kind: kind, Name: p.Name()}
+	p.List(func(count int) {
+		if lexer.Name(p.Peek().Text) {
 			p.room(count, api.MaxParams)
 		}
-		n.Kids = append(n.Kids, api.Node{Kind: api.Var, Name: p.name()})
+		n.Kids = append(n.Kids, api.Node{Kind: api.Var, Name: p.Name()})
 	})
 	return n
 }
 
 // branch parses a conditional statement or a loop, which differ in their keywords only.
 func (p *parser) branch(kind byte, middle, last string) api.Node {
-	p.next()
-	test := p.expr(1)
+	p.Next()
+	test := p.expr()
 	first := p.body()
-	p.expect(middle)
+	p.Expect(middle)
 	second := p.body()
-	p.expect(last)
-	return api.Node{Kind: kind, Kids: []api.Node{test, first, second, p.expr(1)}}
+	p.Expect(last)
+	return api.Node{Kind: kind, Kids: []api.Node{test, first, second, p.expr()}}
 }
 
 func (p *parser) local() api.Node {
-	p.next()
-	if p.accept("stack") {
-		name := p.name()
+	p.Next()
+	if p.Accept("stack") {
+		name := p.Name()
 		return api.Node{Kind: api.LocalStack, Name: name, Kids: []api.Node{p.body()}}
 	}
-	name := p.name()
-	p.expect("=")
-	initial := p.expr(1)
+	name := p.Name()
+	p.Expect("=")
+	initial := p.expr()
 	block := p.body()
-	p.expect("delocal")
-	return api.Node{Kind: api.Local, Name: name, Kids: []api.Node{initial, block, p.expr(1)}}
+	p.Expect("delocal")
+	return api.Node{Kind: api.Local, Name: name, Kids: []api.Node{initial, block, p.expr()}}
 }
 
 func (p *parser) assignment() api.Node {
 	left := p.place()
 	var kind byte
-	switch p.peek().Text {
+	switch p.Peek().Text {
 	case "+=":
 		kind = api.Plus
 	case "-=":
@@ -184,69 +168,61 @@ func (p *parser) assignment() api.Node {
 	case ":=":
 		kind = api.Set
 	case "<=>":
-		p.next()
+		p.Next()
 		return api.Node{Kind: api.Swap, Kids: []api.Node{left, p.place()}}
 	default:
-		p.reject()
+		p.Reject()
 	}
-	p.next()
-	return api.Node{Kind: kind, Kids: []api.Node{left, p.expr(1)}}
+	p.Next()
+	return api.Node{Kind: kind, Kids: []api.Node{left, p.expr()}}
 }
 
 func (p *parser) place() api.Node {
-	name := p.name()
-	if !p.accept("[") {
+	name := p.Name()
+	if !p.Accept("[") {
 		return api.Node{Kind: api.Var, Name: name}
 	}
-	index := p.expr(1)
-	p.expect("]")
+	index := p.expr()
+	p.Expect("]")
 	return api.Node{Kind: api.Item, Name: name, Kids: []api.Node{index}}
 }
 
-// expr parses an expression whose binary operators, outside of parentheses, have at least this level.
-func (p *parser) expr(level int) api.Node {
-	left := p.unary()
-	for {
-		op, ok := p.ops[p.peek().Text]
-		if !ok || arith.Level(op) < level {
-			return left
-		}
-		p.next()
-		right := p.expr(arith.Level(op) + 1)
-		left = api.Node{Kind: op, Kids: []api.Node{left, right}}
-	}
+func (p *parser) expr() api.Node {
+	return p.Binary(1, p.unary, func(op byte, left, right api.Node) api.Node {
+		return api.Node{Kind: op, Kids: []api.Node{left, right}}
+	})
 }
 
 func (p *parser) unary() api.Node {
 	switch {
-	case p.accept("-"):
+	case p.Accept("-"):
 		return api.Node{Kind: api.Neg, Kids: []api.Node{p.unary()}}
-	case p.accept("!"):
+	case p.Accept("!"):
 		return api.Node{Kind: api.Not, Kids: []api.Node{p.unary()}}
 	}
 	return p.primary()
 }
 
 func (p *parser) primary() api.Node {
-	t := p.peek()
+	t := p.Peek()
 	switch {
 	case t.Kind == lexer.Number:
-		return api.Node{Kind: api.Num, Num: p.number(0, math.MaxInt)}
-	case p.accept("top"):
+		return api.Node{Kind: api.Num, Num: p.Number(0, math.MaxInt)}
+	case p.Accept("top"):
 		return api.Node{Kind: api.Top, Name: p.stackName()}
-	case p.accept("size"):
+	case p.Accept("size"):
 		return api.Node{Kind: api.Size, Name: p.stackName()}
-	case p.accept("("):
-		n := p.expr(1)
-		p.expect(")")
+	case p.Accept("("):
+		n := p.expr()
+		p.Expect(")")
 		return n
 	}
 	return p.place()
 }
 
 func (p *parser) stackName() string {
-	p.expect("(")
-	name := p.name()
-	p.expect(")")
+	p.Expect("(")
+	name := p.Name()
+	p.Expect(")")
 	return name
 }
