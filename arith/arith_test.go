@@ -51,9 +51,9 @@ func TestApplyErrors(t *testing.T) {
 	}
 	for k := 0; k < 256; k++ {
 		op := byte(k)
-		_, e := arith.Apply(op, 4, 2)
-		if binary := op >= api.Add && op <= api.Either; binary != (e == api.OK) || !binary && e != api.ErrType {
-			t.Errorf("kind %d: %d", op, e)
+		v, e := arith.Apply(op, 4, 2)
+		if binary := op >= api.Add && op <= api.Either; binary != (e == api.OK) || !binary && (e != api.ErrType || v != 0) {
+			t.Errorf("kind %d: %d, %d", op, v, e)
 		}
 	}
 }

@@ -284,8 +284,9 @@ func TestAtAndReplace(t *testing.T) {
 	if m, ok := ast.At(n, []int{0, 0}); !ok || m.Num != 1 {
 		t.Error("At", m)
 	}
+	before := ast.Clone(n)
 	m, ok := ast.Replace(n, []int{0, 0}, x)
-	if !ok || !ast.Equal(m, node(api.Plus, with(api.Item, "a", x), num(1))) || !ast.Equal(n, node(api.Plus, item, num(1))) {
+	if !ok || !ast.Equal(m, node(api.Plus, with(api.Item, "a", x), num(1))) || !ast.Equal(n, before) {
 		t.Error("Replace", m, n)
 	}
 	if m, ok := ast.Replace(n, nil, x); !ok || !ast.Equal(m, x) {

@@ -73,6 +73,8 @@ func TestArbitraryTrees(t *testing.T) {
 		{api.Node{Kind: api.Swap, Kids: []api.Node{v("x"), v("y"), v("z")}}, "x y z", "x y"},
 		{api.Node{Kind: api.Push, Name: "s"}, "s", "s"},
 		{api.Node{Kind: api.Push, Name: "s", Kids: []api.Node{{Kind: api.Num}}}, "s", "s"},
+		{api.Node{Kind: api.Push, Name: "s", Kids: []api.Node{v("x"), v("y")}}, "s x y", "s x"},
+		{api.Node{Kind: api.Uncall, Name: "f", Kids: []api.Node{v("x")}}, "x", "x"},
 		{api.Node{Kind: api.Call, Name: "f", Kids: []api.Node{v("x"), {Kind: api.Neg, Kids: []api.Node{v("y")}}}}, "x y", "x"},
 		{api.Node{Kind: api.Local, Name: "k", Kids: []api.Node{v("k")}}, "k", ""},
 		{api.Node{Kind: api.Local, Name: "k"}, "", ""},
@@ -123,16 +125,18 @@ proc g() { if 1 { call h(); } else { call f(); } fi 1; }
 proc h() { }
 proc g() { call g2(); }
 proc r() { uncall r(); }
+proc c(int r) { call f(); r += 1; }
+proc d() { call h(); call h(); }
 main { call h(); uncall f(); call f(); }`)
 	if e != api.OK {
 		t.Fatal(e)
 	}
-	for proc, want := range map[int][]int{-1: {0, 2}, 0: {1}, 1: {0, 2}, 2: nil, 3: nil, 4: {4}, 5: nil, -2: nil} {
+	for proc, want := range map[int][]int{-1: {0, 2}, 0: {1}, 1: {0, 2}, 2: nil, 3: nil, 4: {4}, 5: {0}, 6: {2}, 7: nil, -2: nil} {
 		if got := effects.Calls(p, proc); !slices.Equal(got, want) {
 			t.Errorf("calls of %d: %v", proc, got)
 		}
 	}
-	for proc, want := range map[int]bool{-1: false, 0: true, 1: true, 2: false, 3: false, 4: true, 5: false, -2: false} {
+	for proc, want := range map[int]bool{-1: false, 0: true, 1: true, 2: false, 3: false, 4: true, 5: false, 6: false, 7: false, -2: false} {
 		if effects.Recursive(p, proc) != want {
 			t.Errorf("recursive %d", proc)
 		}

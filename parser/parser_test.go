@@ -239,6 +239,9 @@ func TestSizeLimits(t *testing.T) {
 		{"proc f() { x += " + deep(79) + "; } $", 99, api.ErrForm},
 		{"proc f() { x += " + deep(79) + "; } int", 9, api.ErrDepth},
 		{"main {" + tall[:666*8] + " }", 0, api.OK},
+		{"main {" + tall[:665*8] + "read x; read x; }", 0, api.OK},
+		{"main {" + tall[:666*8] + "call f(); }", 0, api.OK},
+		{"main {" + tall[:666*8] + "read x; }", 5, api.ErrFull},
 		{"main {" + tall + " }", 5, api.ErrFull},
 		{"main {" + tall + "x += " + deep(79) + "; }", 5, api.ErrDepth},
 	} {

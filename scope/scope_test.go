@@ -46,6 +46,7 @@ func TestCheck(t *testing.T) {
 		"int x main { local y = 1 { } delocal 1; local y = 1 { } delocal 1; }":    nil,
 		"int f proc f(int f) { f += 1; call f(f); } main { call f(f); }":          nil,
 		"proc f(int x) { call g(); } proc g() { call f(x); } main { call h(); }":  {fault(1, api.ErrName, "x", 0, 0), fault(2, api.ErrName, "h", 0)},
+		"array f[2] proc f(int x) { } main { f[0] += 1; f[0] <=> f[1]; }":         nil,
 		"proc f(int a, stack a) { a += 1; } main { }":                             {fault(0, api.ErrTwice, "a"), fault(0, api.ErrType, "a", 0, 0)},
 		"int x main { if y { } else { z += 1; } fi w; }":                          {fault(0, api.ErrName, "y", 0, 0), fault(0, api.ErrName, "z", 0, 2, 0, 0), fault(0, api.ErrName, "w", 0, 3)},
 	} {
@@ -57,7 +58,8 @@ func TestCheck(t *testing.T) {
 			t.Errorf("%q:\n%v, not\n%v", s, got, want)
 		}
 	}
-	if l := scope.Check(api.Program{Vars: []api.VarDecl{{Name: "x", Kind: 9}}}); l != nil {
+	x := api.VarDecl{Name: "x", Kind: api.Int}
+	if l := scope.Check(api.Program{Vars: []api.VarDecl{x, x}}); l != nil {
 		t.Error("faults of an invalid program", l)
 	}
 }

@@ -40,7 +40,7 @@ func TestNew(t *testing.T) {
 	if s, e := state.New(vars, make([]int, api.MaxTape+1)); e != api.ErrFull || len(s.Cells) != 0 {
 		t.Error(e)
 	}
-	if _, e := state.New([]api.VarDecl{{Name: "Any Name", Kind: api.Array, Len: 16}}, nil); e != api.OK {
+	if _, e := state.New([]api.VarDecl{{Name: "Any Name", Kind: api.Array, Len: 16}, {Kind: api.Array, Len: 1}}, nil); e != api.OK {
 		t.Error("names are not examined")
 	}
 }
@@ -146,6 +146,8 @@ func TestApplyErrors(t *testing.T) {
 		{[]state.Change{{0, -1, 1, 4097}}, api.ErrRange},
 		{[]state.Change{{0, -1, 5, 4097}}, api.ErrRange},
 		{[]state.Change{{0, -1, 1, 4096}}, api.OK},
+		{[]state.Change{{0, 0, 1, 0}, {0, -1, 1, 0}}, api.OK},
+		{[]state.Change{{0, -1, 1, 0}}, api.ErrState},
 		{[]state.Change{{0, -1, 2, 3}}, api.ErrState},
 		{[]state.Change{{0, 0, 2, 3}}, api.ErrState},
 		{[]state.Change{{0, 1, 1, 3}}, api.ErrState},

@@ -136,7 +136,7 @@ func TestDoErrors(t *testing.T) {
 	for s, want := range map[string]api.Errno{
 		"x := 1;": api.ErrLossy, "z := 1;": api.ErrLossy, "call f();": api.ErrType, "if z { } else { } fi 1;": api.ErrType, "local x = 1 { } delocal 1;": api.ErrType,
 		"z += a;": api.ErrName, "a += z;": api.ErrType, "x += z;": api.ErrName, "x += a;": api.ErrType, "x[0] += 1;": api.ErrType, "s += 1;": api.ErrType,
-		"x += top(x);": api.ErrType, "x += size(z);": api.ErrName, "push z, x;": api.ErrType, "push z, w;": api.ErrName, "pop z, s;": api.ErrName, "x <=> z;": api.ErrName, "x <=> s;": api.ErrType,
+		"x += top(x);": api.ErrType, "x += size(z);": api.ErrName, "push z, x;": api.ErrType, "push z, w;": api.ErrName, "pop y, a;": api.ErrType, "pop y, z;": api.ErrName, "pop z, s;": api.ErrName, "x <=> z;": api.ErrName, "x <=> s;": api.ErrType,
 		"a[1 / 0] += 1 % 0;": api.ErrDivide, "a[9] += 1 / 0;": api.ErrDivide, "a[9] <=> a[1 / 0];": api.ErrDivide, "a[9] <=> a[top(s)];": api.ErrEmpty, "a[2] += 1;": api.ErrIndex, "a[-1] <=> x;": api.ErrIndex,
 		"x <=> a[2];": api.ErrIndex, "push a[2], s;": api.ErrIndex, "pop a[2], s;": api.ErrIndex, "read a[5];": api.ErrIndex,
 		"pop x, s;": api.ErrEmpty, "pop y, s;": api.ErrEmpty, "pop x, t;": api.ErrClear, "pop a[0], t;": api.ErrClear, "read x;": api.ErrClear, "unwrite x;": api.ErrClear,

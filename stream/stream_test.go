@@ -29,7 +29,7 @@ func TestErrors(t *testing.T) {
 	for text, want := range map[string]struct {
 		pos int
 		e   api.Errno
-	}{"x y": {2, api.ErrForm}, "x": {1, api.ErrEnd}, "x 99": {2, api.ErrRange}, "x 5 5": {4, api.ErrForm}, "x $": {2, api.ErrForm}, "if 5": {0, api.ErrForm}, "x 5": {0, api.OK}} {
+	}{"x y": {2, api.ErrForm}, "x 1": {0, api.OK}, "x 9": {0, api.OK}, "x 0": {2, api.ErrRange}, "x 10": {2, api.ErrRange}, "x 99999999999999999999": {2, api.ErrRange}, "x": {1, api.ErrEnd}, "x 99": {2, api.ErrRange}, "x 5 5": {4, api.ErrForm}, "x $": {2, api.ErrForm}, "if 5": {0, api.ErrForm}, "x 5": {0, api.OK}} {
 		s := stream.New(text)
 		s.Name()
 		s.Number(1, 9)
@@ -50,5 +50,37 @@ func TestBinary(t *testing.T) {
 	n := s.Binary(1, func() api.Node { return api.Node{Num: s.Number(0, 9)} }, combine)
 	if s.Err != api.OK || n.Kind != api.Sub || n.Kids[0].Kind != api.Sub || n.Kids[0].Kids[1].Kind != api.Mul || n.Kids[1].Num != 4 {
 		t.Error(n, s.Err)
+	}
+}
+
+func TestExpectAndList(t *testing.T) {
+	s := stream.New("a b")
+	s.Expect("a")
+	s.Expect("c")
+	if s.Err != api.ErrForm || s.Pos != 2 {
+		t.Error(s.Pos, s.Err)
+	}
+	empty := stream.New("() x")
+	empty.List(func(int) { t.Error("there is no element") })
+	if empty.Err != api.OK || empty.Name() != "x" {
+		t.Error(empty.Err)
+	}
+	open := stream.New("(a b)")
+	open.List(func(int) { open.Name() })
+	if open.Err != api.ErrForm || open.Pos != 3 {
+		t.Error(open.Pos, open.Err)
+	}
+	missing := stream.New("a)")
+	missing.List(func(int) { t.Error("there is no list") })
+	if missing.Err != api.ErrForm || missing.Pos != 0 {
+		t.Error(missing.Pos, missing.Err)
+	}
+	bad := stream.New("1")
+	if bad.Name(); bad.Err != api.ErrForm {
+		t.Error(bad.Err)
+	}
+	word := stream.New("x")
+	if n := word.Number(0, 9); n != 0 || word.Err != api.ErrForm {
+		t.Error(n, word.Err)
 	}
 }

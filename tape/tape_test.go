@@ -77,6 +77,10 @@ func TestOutput(t *testing.T) {
 		t.Error(n, e)
 	}
 	expect(t, p, []int{5}, []int{1, 2})
+	p.Unwrite()
+	if n, e := p.Unwrite(); n != 1 || e != api.OK {
+		t.Error("the last number", n, e)
+	}
 	full, _ := tape.New(nil, make([]int, api.MaxTape))
 	if e := full.Write(1); e != api.ErrFull || len(full.Out()) != api.MaxTape {
 		t.Error(e)

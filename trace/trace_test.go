@@ -134,11 +134,20 @@ func TestRest(t *testing.T) {
 	if !slices.Equal(positions, []int{1, 2, 3}) || !slices.Equal(values, []int{1, 3, 3}) || c.Pos() != 1 || !state.Equal(c.State(), one(1)) {
 		t.Error(positions, values)
 	}
-	for pos := range c.Rest() {
-		if pos == 2 {
-			break
+	rest := c.Rest()
+	c.Seek(3)
+	for range 2 {
+		last := 0
+		for pos, s := range rest {
+			if last = pos; s.Cells[0][0] == 3 {
+				break
+			}
+		}
+		if last != 2 {
+			t.Error("the iterator starts where the cursor was", last)
 		}
 	}
+	c.Seek(1)
 	if c.Pos() != 1 {
 		t.Error("Rest moves the cursor")
 	}
