@@ -37,11 +37,22 @@ func TestFits(t *testing.T) {
 	if build.Fits(deep) != api.OK || build.Fits(build.Block(build.Named(api.LocalStack, "a", deep))) != api.ErrDepth {
 		t.Error("depth", ast.Depth(deep))
 	}
+	deep = build.Block(build.Node(api.Read, build.Named(api.Item, "a", build.Num(1))))
+	for range 38 {
+		deep = build.Block(build.Named(api.LocalStack, "a", deep))
+	}
+	if ast.Depth(deep) != 80 || build.Fits(deep) != api.OK {
+		t.Error("depth", ast.Depth(deep))
+	}
 	var wide []api.Node
 	for range 999 {
 		wide = append(wide, build.Node(api.Read, build.Ref("a")))
 	}
 	if build.Fits(build.Block(wide...)) != api.OK || build.Fits(build.Block(append(wide, wide[0])...)) != api.ErrFull {
 		t.Error("size")
+	}
+	exact := build.Block(append(wide[:998:998], build.Call(api.Call, "f", "a", "b"))...)
+	if ast.Size(exact) != 2000 || build.Fits(exact) != api.OK {
+		t.Error("size", ast.Size(exact))
 	}
 }

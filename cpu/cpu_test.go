@@ -175,7 +175,7 @@ func TestStraightErrors(t *testing.T) {
 
 func TestFullAndEmptyComponents(t *testing.T) {
 	for s, want := range map[string]api.Errno{
-		"push r1 1": api.ErrFull, "push r1 0": api.OK, "swaps 0 1": api.ErrFull, "swaps 1 0": api.ErrFull, "swaps 1 2": api.OK, "swaps 0 0": api.OK,
+		"push r1 1": api.ErrFull, "push r1 0": api.OK, "swaps 0 1": api.ErrFull, "swaps 1 0": api.ErrFull, "swaps 1 2": api.OK, "swaps 2 1": api.OK, "swaps 0 0": api.OK,
 		"unread r1": api.ErrFull, "write r1": api.ErrFull, "read r1": api.ErrClear,
 	} {
 		im := load(t, s)

@@ -174,6 +174,21 @@ func TestErrors(t *testing.T) {
 	}
 }
 
+func TestParkingCells(t *testing.T) {
+	for s, want := range map[string]int{"x + y - x + y - x": 1, "x - (y - (x - y))": 3, "(x - y) - (x - (y - x))": 3, "a[x - y] - a[y - (x - x)]": 3, "x": 0} {
+		code, _ := exprgen.Compute(expr(t, s), frame)
+		cells := map[int]bool{}
+		for _, i := range code {
+			if i.Op == api.OpMem && i.B >= frame.Cells {
+				cells[i.B] = true
+			}
+		}
+		if len(cells) != want || want > 0 && !cells[frame.Cells] {
+			t.Errorf("%q: %v", s, cells)
+		}
+	}
+}
+
 func TestUncompute(t *testing.T) {
 	l := []api.Instr{{Op: api.OpAdd, A: 1, B: 2}, {Op: api.OpPush, A: 1, B: 3}, {Op: api.OpRead, A: 1}, {Op: api.OpHalt}}
 	want := []api.Instr{{Op: api.OpHalt}, {Op: api.OpUnread, A: 1}, {Op: api.OpPop, A: 1, B: 3}, {Op: api.OpSub, A: 1, B: 2}}

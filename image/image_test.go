@@ -56,6 +56,7 @@ func TestCheck(t *testing.T) {
 		"start 2, jmp 4, end 0, start 5, land 1, end 3": {1, api.ErrState},
 		"start 5, start 3, jmp 4, end 1, land 2, end 0": {1, api.ErrState},
 		"start 1, end 0, start 3, end 2, jmp 5, land 4": {-1, api.OK},
+		"land 2, start 3, jmp 0, end 1":                 {0, api.ErrState},
 		"jmp 3, start 2, end 1, land 0":                 {-1, api.OK},
 		"start 2, start 9, end 0":                       {1, api.ErrJump},
 	} {

@@ -196,6 +196,15 @@ func TestEncode(t *testing.T) {
 		}
 	}
 	o := sampleObject()
+	o.Piece.Refs[0].Name = strings.Repeat("n", 255)
+	b, e = object.Encode(o)
+	if back, e2 := object.Decode(b); e != api.OK || e2 != api.OK || !same(back, o) {
+		t.Error("a long reference", e, e2)
+	}
+	o.Piece.Refs[0].Name += "n"
+	if b, e := object.Encode(o); object.Check(o) != api.OK || e != api.ErrFull || b != nil {
+		t.Error("a reference that the file cannot hold", e)
+	}
 	o.Piece = stmtgen.Piece{Code: make([]api.Instr, api.MaxCode+1)}
 	if b, e := object.Encode(o); e != api.ErrFull || b != nil {
 		t.Error(e)

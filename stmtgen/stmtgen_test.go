@@ -190,6 +190,15 @@ func TestBlockErrors(t *testing.T) {
 			t.Errorf("%q: %d", s, e)
 		}
 	}
+	edge := frame
+	edge.Cells = api.MaxCells
+	if p, e := stmtgen.Block(block(t, "call f(x, b, s, y);"), edge, procs); e != api.ErrFull || p.Code != nil {
+		t.Error("parameters beyond MaxCells", e)
+	}
+	exact := api.Node{Kind: api.Block, Kids: append(slices.Repeat(block(t, "read x;").Kids, 21841), block(t, "x += y;").Kids...)}
+	if p, e := stmtgen.Block(exact, frame, procs); e != api.OK || len(p.Code) != api.MaxCode {
+		t.Error(len(p.Code), e)
+	}
 	long := api.Node{Kind: api.Block, Kids: slices.Repeat(block(t, "read x;").Kids, api.MaxCode/3)}
 	if p, e := stmtgen.Block(long, frame, procs); e != api.OK || len(p.Code) != api.MaxCode-1 {
 		t.Error(len(p.Code), e)
@@ -236,6 +245,9 @@ func TestInvert(t *testing.T) {
 	}
 	if again, _ := stmtgen.Invert(got); !slices.Equal(again.Code, p.Code) || !slices.Equal(again.Refs, p.Refs) {
 		t.Error(again)
+	}
+	if got, e := stmtgen.Invert(stmtgen.Piece{Code: make([]api.Instr, api.MaxCode)}); e != api.OK || len(got.Code) != api.MaxCode {
+		t.Error("MaxCode instructions", e)
 	}
 	for _, c := range []struct {
 		p    stmtgen.Piece

@@ -129,6 +129,17 @@ func TestBoxes(t *testing.T) {
 	}
 }
 
+func TestLargestBox(t *testing.T) {
+	stacks := []api.VarDecl{s, {Name: "t", Kind: api.Stack}}
+	fails := stmt(t, "if 1 { } else { } fi 0;")
+	if _, ok := witness.Constant(fails, stacks, enumerate.Box{Length: 255}, 10); !ok {
+		t.Error("MaxStates states")
+	}
+	if _, ok := witness.Constant(fails, stacks, enumerate.Box{Length: 255, Input: 1}, 10); ok {
+		t.Error("more than MaxStates states")
+	}
+}
+
 func TestConstant(t *testing.T) {
 	b := enumerate.Box{Value: 2}
 	for text, want := range map[string]int{"if x == 1 { } else { } fi 1;": 0, "if x == 0 { } else { } fi 1;": 1, "from 0 { } loop { } until x;": 0, "if x { } else { } fi 0;": 1} {
@@ -198,6 +209,9 @@ func TestExplainUsesProcedures(t *testing.T) {
 	got, ok := witness.Explain(p, l[0], enumerate.Box{Value: 1}, 50)
 	if !ok || len(got) != 1 || got[0].Cells[0][0] != 0 {
 		t.Error(got, ok)
+	}
+	if got, ok := witness.Explain(p, l[0], enumerate.Box{Value: 1}, 0); ok || got != nil {
+		t.Error("no counterexample", got)
 	}
 }
 
