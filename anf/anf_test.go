@@ -180,6 +180,36 @@ func TestValidLibraries(t *testing.T) {
 	if !anf.Valid(many[:30]) || anf.Valid(many) || anf.Valid([]anf.Func{f("a"), f("b"), f("a")}) {
 		t.Error("number and names of functions")
 	}
+	wide := func(n int) anf.Func {
+		w := anf.Func{Result: "A"}
+		for i := range n {
+			w.Params = append(w.Params, api.Param{Name: string(rune('A' + i))})
+		}
+		return w
+	}
+	if !anf.Valid([]anf.Func{wide(8)}) || anf.Valid([]anf.Func{wide(9)}) {
+		t.Error("number of parameters")
+	}
+	sameParams := wide(2)
+	sameParams.Params[1].Name = "A"
+	sameTemps := anf.Func{Temps: []api.Param{{Name: "t0"}, {Name: "t0"}}, Body: []anf.Bind{num("t0", 1)}, Result: "t0"}
+	if anf.Valid([]anf.Func{sameParams}) || anf.Valid([]anf.Func{sameTemps}) {
+		t.Error("same names")
+	}
+	calls := wide(2)
+	calls.Temps, calls.Result = temps("iiii"), "t3"
+	calls.Body = []anf.Bind{num("t0", 1), op("t1", api.Either, "t0", "A"), call("t2", "", false, "t0", "t1"), call("t3", "", false, "t1", "t2")}
+	if !anf.Valid([]anf.Func{calls}) {
+		t.Error("calls")
+	}
+	calls.Body[3].Args[0] = "t2"
+	if anf.Valid([]anf.Func{calls}) {
+		t.Error("equal arguments")
+	}
+	calls.Body[3] = anf.Bind{To: "t3", Op: api.FNum, Then: []anf.Bind{num("t3", 1)}, Else: []anf.Bind{num("t3", 1)}}
+	if anf.Valid([]anf.Func{calls}) {
+		t.Error("branches of a number")
+	}
 	twice := anf.Func{Name: "f", Params: []api.Param{{Name: "x"}}, Temps: temps("iii"), Result: "t0", Body: []anf.Bind{
 		{To: "t0", Op: api.FIf, Args: []string{"x"}, Then: []anf.Bind{num("t1", 1), cp("t0", "t1", false)}, Else: []anf.Bind{num("t1", 2), cp("t0", "t1", false)}}, num("t2", 5)}}
 	if anf.Valid([]anf.Func{twice}) {
@@ -199,6 +229,9 @@ proc rev(stack xs, stack acc) stack { if !xs { acc } else { local h = top(xs) { 
 proc mix(int a, stack l) int { local b = a * a { if b > 10 { len(app(l, l)) / (b - 16) } else { top(rev(l, [])) % a } } }
 proc deep(int n) int { if n == 0 { 0 } else { 1 + deep(n - 1) } }
 proc cons(stack l) stack { push(7, l) }
+proc late(int x, stack l) int { (if x { 1 } else { 2 }) * 10 + local y = if x { l } else { [] } { len(y) + top(if !y { push(x, y) } else { y }) } }
+proc nul(stack l) int { !l }
+proc ends(stack l) stack { push(top(l), pop(pop(l))) }
 proc same(int a) int { fib(a) * fib(a) - mix(a, push(a, push(2, []))) }
 `
 
@@ -216,6 +249,10 @@ func TestEvalAgreesWithFuneval(t *testing.T) {
 		args []api.Value
 	}
 	cases := []example{{"len", []api.Value{list(1, 2, 3)}}, {"app", []api.Value{list(1, 2), list(3)}}, {"rev", []api.Value{list(1, 2, 3), list(9)}}, {"cons", []api.Value{list(make([]int, 1000)...)}}, {"cons", []api.Value{list(5)}}, {"deep", []api.Value{value(29)}}, {"deep", []api.Value{value(30)}}, {"rev", []api.Value{list(), list()}}}
+	cases = append(cases, example{"late", []api.Value{value(0), list(8, 9)}}, example{"late", []api.Value{value(1), list(8, 9)}}, example{"late", []api.Value{value(1), list()}})
+	for n := range 4 {
+		cases = append(cases, example{"nul", []api.Value{list(make([]int, n)...)}}, example{"ends", []api.Value{list(make([]int, n)...)}})
+	}
 	for a := range 7 {
 		cases = append(cases, example{"mix", []api.Value{value(a), list(3, 4)}}, example{"same", []api.Value{value(a)}})
 	}
@@ -257,7 +294,14 @@ func TestEval(t *testing.T) {
 		}
 	}
 	arg := []int{1, 2}
-	v, _ := anf.Eval([]anf.Func{{Params: []api.Param{{Name: "l", List: true}}, List: true, Result: "l"}}, "", []api.Value{{List: true, L: arg}}, 0)
+	id := []anf.Func{{Params: []api.Param{{Name: "l", List: true}}, List: true, Result: "l"}}
+	if v, e := anf.Eval(id, "", []api.Value{list(make([]int, 1001)...)}, 0); e != api.ErrFull || v.List {
+		t.Error(e)
+	}
+	if v, e := anf.Eval(id, "", []api.Value{list(make([]int, 1000)...)}, 0); e != api.OK || len(v.L) != 1000 {
+		t.Error(e)
+	}
+	v, _ := anf.Eval(id, "", []api.Value{{List: true, L: arg}}, 0)
 	v.L[0] = 9
 	if arg[0] != 1 {
 		t.Error("the result shares memory with the argument")

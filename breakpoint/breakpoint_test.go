@@ -56,6 +56,11 @@ func TestNext(t *testing.T) {
 	if breakpoint.Next(d, 0, is(2)) || breakpoint.Next(d, -1, is(2)) || d.Time() != 12 {
 		t.Error("no steps")
 	}
+	d.Seek(18)
+	if breakpoint.Next(d, 5, is(0)) || d.Time() != 18 {
+		t.Error("there is no later time")
+	}
+	d.Seek(12)
 	calls := 0
 	breakpoint.Next(d, 4, func(m api.Machine) bool { calls++; m.M[0] = 77; return false })
 	if calls != 4 || d.Machine().M[0] != 2 {
@@ -78,6 +83,11 @@ func TestPrev(t *testing.T) {
 	if breakpoint.Prev(d, 100, is(3)) || d.Time() != 6 {
 		t.Error("no earlier time", d.Time())
 	}
+	d.Seek(0)
+	if breakpoint.Prev(d, 5, is(0)) || d.Time() != 0 {
+		t.Error("there is no earlier time")
+	}
+	d.Seek(6)
 	if breakpoint.Prev(d, 0, is(2)) || breakpoint.Prev(d, -5, is(1)) || d.Time() != 6 {
 		t.Error("no steps")
 	}

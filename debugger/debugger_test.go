@@ -69,6 +69,12 @@ func TestStepAndBack(t *testing.T) {
 	if e := d.Back(); e != api.ErrEnd || d.Time() != 0 {
 		t.Error(e)
 	}
+	im, m := load(t, "addi r1 5, halt")
+	m.PC = 1
+	later, _ := debugger.New(im, m)
+	if e := later.Back(); e != api.ErrEnd || later.Machine().PC != 1 {
+		t.Error("time 0 is where the debugger started", e)
+	}
 	if e := d.Step(); e != api.OK || d.Time() != 1 || d.Machine().R[1] != 5 {
 		t.Error(e)
 	}

@@ -43,6 +43,7 @@ func TestValidLibraries(t *testing.T) {
 		{fn("f", false, let("y", ref("xs"), let("z", node(api.FHead, ref("y")), op(api.Mul, ref("z"), ref("z")))), xs)},
 		{fn("abcdefghijkl", false, op(api.Add, let("y", num(1), ref("y")), let("y", null, node(api.FNull, ref("y")))))},
 		{fn("x", false, call("x", ref("x")), x)},
+		{fn("f", false, integer, eight()...)},
 	} {
 		if i, e := fun.Valid(lib); i != -1 || e != api.OK {
 			t.Error(lib, i, e)
@@ -52,6 +53,14 @@ func TestValidLibraries(t *testing.T) {
 			t.Error("permutation", lib, i, e)
 		}
 	}
+}
+
+func eight() []api.Param {
+	var l []api.Param
+	for _, c := range "abcdefhi" {
+		l = append(l, api.Param{Name: string(c)})
+	}
+	return l
 }
 
 func TestInvalidFunctions(t *testing.T) {
@@ -180,7 +189,7 @@ func TestType(t *testing.T) {
 }
 
 func TestFindAndCalls(t *testing.T) {
-	lib := []api.Func{fn("a", false, op(api.Add, call("b", call("c"), call("none", call("a"))), call("b"))), fn("b", false, integer), fn("c", false, integer), fn("b", true, integer)}
+	lib := []api.Func{fn("a", false, op(api.Add, call("b", call("c"), call("none", call("a"))), call("b"))), fn("b", false, ref("c")), fn("c", false, integer), fn("b", true, integer)}
 	if fun.Find(lib, "b") != 1 || fun.Find(lib, "none") != -1 || fun.Find(nil, "") != -1 {
 		t.Error("Find")
 	}

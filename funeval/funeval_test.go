@@ -38,6 +38,9 @@ proc tail(stack l) stack { pop(l) }
 proc cons(stack l) stack { push(7, l) }
 proc lazy(int n) int { if n { 1 } else { 1 / 0 } }
 proc none() stack { [] }
+proc null(stack l) int { !l + 10 }
+proc bad(int n) int { local c = 1 / n { 5 } }
+proc test(int n) int { if 1 / n { 1 } else { 2 } }
 `
 
 func TestCall(t *testing.T) {
@@ -51,7 +54,8 @@ func TestCall(t *testing.T) {
 		{"len", []api.Value{list(7, 8)}, num(2), api.OK}, {"len", []api.Value{list()}, num(0), api.OK}, {"app", []api.Value{list(1, 2), list(3)}, list(1, 2, 3), api.OK}, {"fib", []api.Value{num(10)}, num(55), api.OK},
 		{"div", []api.Value{num(7), num(3)}, num(4), api.OK}, {"div", []api.Value{num(7), num(0)}, num(0), api.ErrDivide}, {"nest", []api.Value{num(5)}, num(15), api.OK}, {"deep", []api.Value{num(29)}, num(29), api.OK}, {"deep", []api.Value{num(30)}, num(0), api.ErrDepth},
 		{"spin", []api.Value{num(1)}, num(0), api.ErrDepth}, {"head", []api.Value{list(4, 5)}, num(4), api.OK}, {"head", []api.Value{list()}, num(0), api.ErrEmpty}, {"tail", []api.Value{list(4, 5)}, list(5), api.OK}, {"tail", []api.Value{list()}, num(0), api.ErrEmpty},
-		{"cons", []api.Value{list(make([]int, 999)...)}, list(append([]int{7}, make([]int, 999)...)...), api.OK}, {"cons", []api.Value{list(make([]int, 1000)...)}, num(0), api.ErrFull}, {"lazy", []api.Value{num(2)}, num(1), api.OK}, {"lazy", []api.Value{num(0)}, num(0), api.ErrDivide}, {"none", nil, list(), api.OK},
+		{"cons", []api.Value{list(make([]int, 999)...)}, list(append([]int{7}, make([]int, 999)...)...), api.OK}, {"cons", []api.Value{list(make([]int, 1000)...)}, num(0), api.ErrFull}, {"lazy", []api.Value{num(2)}, num(1), api.OK}, {"lazy", []api.Value{num(0)}, num(0), api.ErrDivide}, {"none", nil, list(), api.OK}, {"null", []api.Value{list()}, num(11), api.OK}, {"null", []api.Value{list(0)}, num(10), api.OK},
+		{"head", []api.Value{list(make([]int, 1000)...)}, num(0), api.OK}, {"bad", []api.Value{num(0)}, num(0), api.ErrDivide}, {"test", []api.Value{num(0)}, num(0), api.ErrDivide}, {"test", []api.Value{num(2)}, num(2), api.OK},
 		{"missing", nil, num(0), api.ErrNone}, {"len", nil, num(0), api.ErrType}, {"len", []api.Value{num(1)}, num(0), api.ErrType}, {"fib", []api.Value{list()}, num(0), api.ErrType}, {"fib", []api.Value{num(1), num(1)}, num(0), api.ErrType},
 		{"app", []api.Value{list(make([]int, 1001)...), num(1)}, num(0), api.ErrType}, {"app", []api.Value{list(make([]int, 1001)...), list()}, num(0), api.ErrFull}, {"fib", []api.Value{{N: 3, L: []int{1, 2}}}, num(2), api.OK}, {"tail", []api.Value{{List: true, N: 9, L: []int{1, 2}}}, list(2), api.OK},
 	} {

@@ -81,9 +81,22 @@ func TestCompileErrors(t *testing.T) {
 	if _, e := object.Main(api.Program{}); e != api.ErrForm {
 		t.Error(e)
 	}
-	long := "int x main { " + strings.Repeat("x += "+strings.Repeat("1+", 70)+"1; ", 13) + " }"
-	if _, e := object.Main(parse(t, long)); e != api.OK {
-		t.Error(e)
+	var arrays, params, args []string
+	for _, c := range "abcdefhi" {
+		arrays = append(arrays, "array "+string(c)+"[16]")
+		params = append(params, "array p"+string(c)+"[16]")
+		args = append(args, string(c))
+	}
+	calls := strings.Repeat("call g("+strings.Join(args, ", ")+"); ", 86)
+	long := strings.Join(arrays, " ") + " proc g(" + strings.Join(params, ", ") + ") { } proc r(" + strings.Join(arrays, ", ") + ") { " + calls + "} main { " + calls + "}"
+	if o, e := object.Main(parse(t, long)); e != api.ErrFull || !same(o, object.Object{}) {
+		t.Error("too much code", e)
+	}
+	if o, e := object.Proc(parse(t, long), 1); e != api.ErrFull || !same(o, object.Object{}) {
+		t.Error("too much code", e)
+	}
+	if o, e := object.Proc(parse(t, long), 0); e != api.OK || len(o.Params) != 8 || object.Check(o) != api.OK {
+		t.Error("eight parameters", e)
 	}
 }
 
@@ -121,6 +134,8 @@ func TestCheck(t *testing.T) {
 		"slot name":           {func(o *object.Object) { o.Frame.Slots[3].Name = long[1:] }, api.OK},
 		"integer length":      {func(o *object.Object) { o.Frame.Slots[3].Len = 1 }, api.ErrForm},
 		"array length":        {func(o *object.Object) { o.Frame.Slots[3] = layout.Slot{Name: "b", Kind: api.Array, Len: 17, At: 2} }, api.ErrForm},
+		"array name":          {func(o *object.Object) { o.Frame.Slots[3] = layout.Slot{Name: long[1:], Kind: api.Array, Len: 1, At: 2} }, api.OK},
+		"long array name":     {func(o *object.Object) { o.Frame.Slots[3] = layout.Slot{Name: long, Kind: api.Array, Len: 1, At: 2} }, api.ErrForm},
 		"array of 16":         {func(o *object.Object) { o.Frame.Slots[3] = layout.Slot{Name: "b", Kind: api.Array, Len: 16, At: 2} }, api.OK},
 		"missing slot":        {func(o *object.Object) { o.Frame.Slots = o.Frame.Slots[:2] }, api.ErrState},
 		"other slot":          {func(o *object.Object) { o.Frame.Slots[0].Name = "y" }, api.ErrState},
@@ -146,6 +161,9 @@ func TestCheck(t *testing.T) {
 		if back, e := object.Decode(b); e != api.OK || !same(back, o) {
 			t.Errorf("%s: Decode %v, %d", title, back, e)
 		}
+	}
+	if object.Check(object.Object{}) != api.OK {
+		t.Error("the empty object")
 	}
 	empty := object.Object{Frame: layout.Frame{Cells: -1}}
 	if object.Check(empty) != api.ErrForm || object.Check(object.Object{Frame: layout.Frame{Stacks: -1}}) != api.ErrForm {
