@@ -35,10 +35,15 @@ func TestValid(t *testing.T) {
 		change func(e *exercise.Exercise)
 		want   bool
 	}{
-		"unchanged":       {func(e *exercise.Exercise) {}, true},
-		"no name":         {func(e *exercise.Exercise) { e.Name = "" }, false},
-		"keyword":         {func(e *exercise.Exercise) { e.Name = "main" }, false},
-		"no points":       {func(e *exercise.Exercise) { e.Points = 0 }, false},
+		"unchanged": {func(e *exercise.Exercise) {}, true},
+		"no name":   {func(e *exercise.Exercise) { e.Name = "" }, false},
+		"keyword":   {func(e *exercise.Exercise) { e.Name = "main" }, false},
+		"no points": {func(e *exercise.Exercise) { e.Points = 0 }, false},
+		"one point": {func(e *exercise.Exercise) { e.Points = 1 }, true},
+		"65536 states": {func(e *exercise.Exercise) {
+			e.Given = parse(t, "stack s stack t main {}")
+			e.Box = enumerate.Box{Length: 255}
+		}, true},
 		"1000 points":     {func(e *exercise.Exercise) { e.Points = 1000 }, true},
 		"1001 points":     {func(e *exercise.Exercise) { e.Points = 1001 }, false},
 		"no fuel":         {func(e *exercise.Exercise) { e.Fuel = 0 }, true},
@@ -148,6 +153,9 @@ func TestParseErrors(t *testing.T) {
 		}
 	}
 	if l, at, err := exercise.Parse(strings.Repeat("\n", api.MaxText+1)); l != nil || at != 0 || err != api.ErrFull {
+		t.Error(at, err)
+	}
+	if l, at, err := exercise.Parse(strings.Repeat("\n", api.MaxText)); l != nil || at != 1 || err != api.ErrForm {
 		t.Error(at, err)
 	}
 	var b strings.Builder

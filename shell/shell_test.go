@@ -113,6 +113,10 @@ func TestDebugger(t *testing.T) {
 			t.Errorf("%d: %q", i, got[i])
 		}
 	}
+	got = play(t, "", "load 1\nint x int y main { x <=> y; x <=> y; }\ncompile\nstep 2\nstep -2\nstep -1\n")
+	if got[1] != "code 7 optimized 1 cells 82 stacks 1\n" || got[3] != "time 0 position 0\n" || got[4] != "error 2\n" {
+		t.Error(got)
+	}
 	for _, c := range []string{double, "input 1\n", "run 5\n", "back 5\n", "invert\n"} {
 		got := play(t, double+"compile\nstep 2\n", c+"step 1\nundo\nstep 1\n")
 		if got[1] != "error 20\n" || got[3] != "time 3 position 3\n" {
@@ -138,6 +142,10 @@ func TestSubmit(t *testing.T) {
 		if got[i] != want[i] {
 			t.Errorf("%d: %q", i, got[i])
 		}
+	}
+	got = play(t, "load 1\nint x stack s stack t main { x += 2; }\n", "submit ann 1 2 1 10 1\nint x stack s stack t main { x -= 2; }\nsubmit ann 1 2 1 0 1\nint x stack s stack t main { x -= 2; }\n")
+	if got[0] != "right 2028\n" || got[1] != "right 0\n" {
+		t.Errorf("%q", got)
 	}
 	got = play(t, double, "submit ann 2 0 0 10 1\nint x main {\nsubmit ann -1 0 0 10 1\nint x main {\nsubmit ann -1 0 0 10 1\nint x main { y += 1; }\nsubmit ann 2 0 0 -1 1\nint x main { }\nsubmit ann 2 0 0 10 1\nint x main { y += 1; }\nsubmit ann 2 0 0 10 1\nint x main { x := 1; }\nsubmit ann 2 0 0 10 1\nmain { }\npoints ann\nundo\nundo\n")
 	want = []string{"error 4\n", "error 4\n", "error 1\n", "error 1\n", "error 3\n", "error 9\n", "error 7\n", "points 0\n", "", "error 20\n"}

@@ -58,7 +58,7 @@ func TestBlock(t *testing.T) {
 			t.Errorf("%q: %v", s, got)
 		}
 	}
-	for _, n := range []api.Node{{}, block(t, "x += 1;").Kids[0], {Kind: api.Block, Kids: []api.Node{block(t, ""), {Kind: api.Num}}}} {
+	for _, n := range []api.Node{{}, {Kind: api.Neg, Kids: block(t, "x += 1; x -= 1;").Kids}, block(t, "x += 1;").Kids[0], {Kind: api.Block, Kids: []api.Node{block(t, ""), {Kind: api.Num}}}} {
 		got := simplify.Block(n)
 		if !ast.Equal(got, n) {
 			t.Error("a copy", got)
