@@ -8,6 +8,7 @@ import (
 	"backstep/api"
 	"backstep/ast"
 	"backstep/build"
+	"backstep/fun"
 	"backstep/inverter"
 	"backstep/listlib"
 )
@@ -41,4 +42,18 @@ func Proc(name string, params []api.VarDecl, body api.Node) (api.Proc, api.Errno
 		return api.Proc{}, api.ErrFull
 	}
 	return api.Proc{Name: name, Params: params, Body: body}, api.OK
+}
+
+// CheckNames returns the error of a function, or of a set of kept functions, that a library does not have.
+func CheckNames(lib []api.Func, name string, kept []string) api.Errno {
+	missing := func(name string) bool { return fun.Find(lib, name) < 0 }
+	if missing(name) || slices.ContainsFunc(kept, missing) {
+		return api.ErrNone
+	}
+	for i, k := range kept {
+		if slices.Contains(kept[:i], k) {
+			return api.ErrTwice
+		}
+	}
+	return api.OK
 }
