@@ -1,7 +1,6 @@
 package anf_test
 
 import (
-	"reflect"
 	"slices"
 	"testing"
 
@@ -50,6 +49,10 @@ func temps(types string) []api.Param {
 	return l
 }
 
+func same(a, b anf.Bind) bool {
+	return a.To == b.To && a.List == b.List && a.Op == b.Op && a.Num == b.Num && a.Name == b.Name && slices.Equal(a.Args, b.Args) && slices.EqualFunc(a.Then, b.Then, same) && slices.EqualFunc(a.Else, b.Else, same)
+}
+
 func TestNormalize(t *testing.T) {
 	lib := normalize(t, `
 proc f(int x, int y) int { x + f(x, 1) }
@@ -76,7 +79,7 @@ proc both(int x) int { if x { if x { 1 } else { x } } else { 2 } }
 			Else: []anf.Bind{num("t3", 2), cp("t0", "t3", false)}}}},
 	} {
 		got := lib[i]
-		if !slices.Equal(got.Temps, want.Temps) || got.Result != want.Result || !reflect.DeepEqual(got.Body, want.Body) {
+		if !slices.Equal(got.Temps, want.Temps) || got.Result != want.Result || !slices.EqualFunc(got.Body, want.Body, same) {
 			t.Errorf("%s:\n%v\n%v", got.Name, got, want)
 		}
 	}
@@ -91,7 +94,7 @@ proc both(int x) int { if x { if x { 1 } else { x } } else { 2 } }
 	}
 	for _, bad := range [][]api.Func{{{Name: "f"}}, {{Name: "f", Body: api.Node{Kind: api.FVar, Name: "x"}}}} {
 		_, want := fun.Valid(bad)
-		if l, e := anf.Normalize(bad); l != nil || e != want {
+		if l, e := anf.Normalize(bad); len(l) != 0 || e != want {
 			t.Error(l, e)
 		}
 	}
@@ -215,7 +218,7 @@ func TestValidLibraries(t *testing.T) {
 	if anf.Valid([]anf.Func{twice}) {
 		t.Error("a temporary that is bound in both branches")
 	}
-	twice.Body[0].Else = []anf.Bind{{To: "t0", Op: api.FIf, Args: []string{"x"}, Then: []anf.Bind{num("t0", -4)}, Else: []anf.Bind{cp("t0", "x", false)}}}
+	twice.Body[0].Else = []anf.Bind{{To: "t0", Op: api.FIf, Args: []string{"x"}, Then: []anf.Bind{num("t0", 4)}, Else: []anf.Bind{cp("t0", "x", false)}}}
 	if !anf.Valid([]anf.Func{twice}) {
 		t.Error("a branch that ends with a branch")
 	}
@@ -263,7 +266,7 @@ func TestEvalAgreesWithFuneval(t *testing.T) {
 				continue
 			}
 			got, e2 := anf.Eval(normal, c.name, c.args, 2*fuel)
-			if e2 != e || !fun.Equal(got, want) || got.List && got.N != 0 || !got.List && got.L != nil {
+			if e2 != e || !fun.Equal(got, want) || got.List && got.N != 0 || !got.List && len(got.L) != 0 {
 				t.Fatal(c, fuel, got, e2, want, e)
 			}
 		}
@@ -272,7 +275,7 @@ func TestEvalAgreesWithFuneval(t *testing.T) {
 
 func TestEval(t *testing.T) {
 	lib := sample()
-	if v, e := anf.Eval(lib, "", []api.Value{{N: 2, L: []int{1}}, {List: true, N: 3, L: []int{5}}}, 5); e != api.OK || !reflect.DeepEqual(v, list(4, 5)) {
+	if v, e := anf.Eval(lib, "", []api.Value{{N: 2, L: []int{1}}, {List: true, N: 3, L: []int{5}}}, 5); e != api.OK || !fun.Equal(v, list(4, 5)) || v.N != 0 {
 		t.Error(v, e)
 	}
 	if v, e := anf.Eval(lib, "", []api.Value{value(2), list(5)}, 4); e != api.ErrFuel || v.List {

@@ -90,12 +90,12 @@ func TestParseErrors(t *testing.T) {
 			if s == "" {
 				continue
 			}
-			if l, at, e := asm.Parse("nop\n" + s); l != nil || at != 2 || e != api.ErrForm {
+			if l, at, e := asm.Parse("nop\n" + s); len(l) != 0 || at != 2 || e != api.ErrForm {
 				t.Errorf("%q: %d, %d", s, at, e)
 			}
 		}
 	}
-	if l, at, e := asm.Parse("nop\nhalt"); l != nil || at != 2 || e != api.ErrEnd {
+	if l, at, e := asm.Parse("nop\nhalt"); len(l) != 0 || at != 2 || e != api.ErrEnd {
 		t.Error("without line feed", at, e)
 	}
 	full := strings.Repeat("nop\n", api.MaxCode)
@@ -103,7 +103,7 @@ func TestParseErrors(t *testing.T) {
 		t.Error(e)
 	}
 	for _, s := range []string{"nop\n", "nop", "bad", "\n"} {
-		if l, at, e := asm.Parse(full + s); l != nil || at != api.MaxCode+1 || e != api.ErrFull {
+		if l, at, e := asm.Parse(full + s); len(l) != 0 || at != api.MaxCode+1 || e != api.ErrFull {
 			t.Error(at, e)
 		}
 	}
@@ -114,7 +114,7 @@ func TestFormatErrors(t *testing.T) {
 		if s, e := asm.Format(l); s != "" || e != api.ErrForm {
 			t.Error(s, e)
 		}
-		if b, e := asm.Encode(l); b != nil || e != api.ErrForm {
+		if b, e := asm.Encode(l); len(b) != 0 || e != api.ErrForm {
 			t.Error(b, e)
 		}
 	}
@@ -123,7 +123,7 @@ func TestFormatErrors(t *testing.T) {
 	if s, e := asm.Format(long); s != "" || e != api.ErrFull {
 		t.Error(e)
 	}
-	if b, e := asm.Encode(long); b != nil || e != api.ErrFull {
+	if b, e := asm.Encode(long); len(b) != 0 || e != api.ErrFull {
 		t.Error(e)
 	}
 	if b, e := asm.Encode(long[1:]); len(b) != 4+api.MaxCode || e != api.OK {
@@ -153,11 +153,11 @@ func TestBinary(t *testing.T) {
 			t.Error(got, e)
 		}
 		for n := range b {
-			if got, e := asm.Decode(b[:n]); got != nil || e != api.ErrEnd {
+			if got, e := asm.Decode(b[:n]); len(got) != 0 || e != api.ErrEnd {
 				t.Error("beginning", n, e)
 			}
 		}
-		if got, e := asm.Decode(append(slices.Clone(b), 0)); got != nil || e != api.ErrForm {
+		if got, e := asm.Decode(append(slices.Clone(b), 0)); len(got) != 0 || e != api.ErrForm {
 			t.Error("bytes remain", e)
 		}
 	}
@@ -173,7 +173,7 @@ func TestDecodeErrors(t *testing.T) {
 		{[]byte{0, 0, 0, 1, api.OpAdd, 16}, api.ErrEnd}, {[]byte{0, 0, 0, 1, api.OpAdd, 1, 1}, api.ErrForm}, {[]byte{0, 0, 0, 1, api.OpMem, 1, 255, 255, 255, 255}, api.ErrForm},
 		{[]byte{0, 0, 0, 1, api.OpZero, 1, 0}, api.ErrForm}, {[]byte{0, 0, 0, 1, api.OpCalc, 1, 2, 3, api.Not}, api.ErrForm}, {[]byte{0, 0, 0, 0, 0}, api.ErrForm}, {[]byte{0, 0, 0, 1, api.OpAdd, 1, 1, 9}, api.ErrForm},
 	} {
-		if l, e := asm.Decode(c.b); l != nil || e != c.want {
+		if l, e := asm.Decode(c.b); len(l) != 0 || e != c.want {
 			t.Errorf("case %d: %d", i, e)
 		}
 	}

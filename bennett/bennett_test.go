@@ -1,7 +1,6 @@
 package bennett_test
 
 import (
-	"reflect"
 	"slices"
 	"strings"
 	"testing"
@@ -32,6 +31,9 @@ func parse(t *testing.T, s string) []api.Func {
 	}
 	return lib
 }
+
+// same compares all fields of values.
+func same(a, b api.Value) bool { return a.List == b.List && a.N == b.N && slices.Equal(a.L, b.L) }
 
 func num(n int) api.Value     { return api.Value{N: n} }
 func list(l ...int) api.Value { return api.Value{List: true, L: l} }
@@ -131,7 +133,7 @@ func TestInputAndOutput(t *testing.T) {
 	}
 	full := api.State{Cells: [][]int{{5}, {3, 2}, {8, 9}}, In: []int{1}}
 	l, v, e := bennett.Output(lib, "f", full)
-	if e != api.OK || !reflect.DeepEqual(l, []api.Value{num(5), list(2, 3)}) || !reflect.DeepEqual(v, list(9, 8)) {
+	if e != api.OK || !slices.EqualFunc(l, []api.Value{num(5), list(2, 3)}, same) || !same(v, list(9, 8)) {
 		t.Error(l, v, e)
 	}
 	v.L[0], l[1].L[0] = 77, 77
@@ -144,7 +146,7 @@ func TestInputAndOutput(t *testing.T) {
 		s    api.State
 		want api.Errno
 	}{{[]api.Func{{Name: "1"}}, "f", full, api.ErrForm}, {lib, "none", full, api.ErrNone}, {lib, "h", full, api.ErrState}, {lib, "f", api.State{}, api.ErrState}, {lib, "f", api.State{Cells: [][]int{{5}, {}, make([]int, 1001)}}, api.ErrState}} {
-		if l, v, e := bennett.Output(c.lib, c.name, c.s); e != c.want || l != nil || v.List || v.L != nil {
+		if l, v, e := bennett.Output(c.lib, c.name, c.s); e != c.want || len(l) != 0 || v.List || len(v.L) != 0 {
 			t.Errorf("case %d: %d", i, e)
 		}
 	}

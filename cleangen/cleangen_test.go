@@ -105,20 +105,12 @@ func TestProcErrors(t *testing.T) {
 		"proc f(int x) int { " + wide + " }":                                api.OK,
 	} {
 		p, e := cleangen.Proc(normalize(t, source)[0])
-		if e != want || e != api.OK && (p.Name != "" || p.Params != nil || p.Body.Kind != 0) {
+		if e != want || e != api.OK && (p.Name != "" || len(p.Params) != 0 || p.Body.Kind != 0) {
 			t.Errorf("%.60q: %d", source, e)
 		}
 		if e == api.OK && (ast.Depth(p.Body) > api.MaxDepth || ast.Size(p.Body) > api.MaxNodes || !ast.IsBlock(p.Body)) {
 			t.Errorf("%.60q: not valid", source)
 		}
-	}
-	var binds []anf.Bind
-	for range 200 {
-		binds = append(binds, anf.Bind{To: "t0", Op: api.FOp, Num: int(api.Add), Args: []string{"x", "x"}})
-	}
-	many := anf.Func{Name: "f", Params: []api.Param{{Name: "x"}}, Temps: []api.Param{{Name: "t0"}}, Result: "t0", Body: binds}
-	if _, e := cleangen.Proc(many); e != api.ErrFull {
-		t.Error("too many nodes", e)
 	}
 	for _, op := range []byte{0, api.FNum, api.FVar, api.FOp, api.FIf, api.FLet, api.FCall, api.FCons, api.FHead, api.FTail, api.FNull} {
 		for _, list := range []bool{false, true} {

@@ -41,8 +41,10 @@ func TestProgram(t *testing.T) {
 }
 
 func TestProgramErrors(t *testing.T) {
-	large := strings.Repeat("x += "+strings.Repeat("y+", 60)+"1; ", 16)
-	params := "array a[16], array b[16], array c[16], array d[16], array e[16], array f[16], array g[16], array h[16]"
+	params := "array a[16], array b[16], array c[16], array d[16], array e[16], array f[16], array h[16], array i[16]"
+	calls := func(n int) string { return strings.Repeat("call g(a, b, c, d, e, f, h, i); ", n) }
+	vars := "array a[16] array b[16] array c[16] array d[16] array e[16] array f[16] array h[16] array i[16] "
+	procs := "proc g(" + params + ") { } "
 	locals := ""
 	for _, c := range "abcdefghijklmnopqrstuvwxyz" {
 		locals += "local k" + string(c) + " = 0 { } delocal 0; "
@@ -50,15 +52,17 @@ func TestProgramErrors(t *testing.T) {
 	for s, want := range map[string]api.Errno{
 		"int x main { x := y; }":         api.ErrForm,
 		"int x main { x += x; x := 1; }": api.ErrAlias,
-		"int x proc f() { local k = 1 { k := 2; } delocal 1; } main { x += x; }":                                           api.ErrLossy,
-		"int x int y main { " + large + " }":                                                                               api.OK,
-		"int x int y proc f(int x, int y) { " + large + " } proc g(int x, int y) { " + large + " } main { " + large + " }": api.ErrFull,
-		"proc f(" + params + ") { } main { }":                                                                              api.OK,
-		"proc f(" + params + ") { " + locals + " } main { }":                                                               api.OK,
-		"proc f(" + params + ") { " + locals + strings.ReplaceAll(locals, "local k", "local m") + " } main { }":            api.ErrFull,
+		"int x proc f() { local k = 1 { k := 2; } delocal 1; } main { x += x; }":                                api.ErrLossy,
+		vars + procs + "main { " + calls(85) + "}":                                                              api.ErrFull,
+		vars + procs + "main { " + calls(84) + "}":                                                              api.OK,
+		vars + procs + "proc r(" + params + ") { " + calls(43) + "} main { " + calls(43) + "}":                  api.ErrFull,
+		vars + procs + "proc r(" + params + ") { " + calls(42) + "} main { " + calls(42) + "}":                  api.OK,
+		"proc f(" + params + ") { } main { }":                                                                   api.OK,
+		"proc f(" + params + ") { " + locals + " } main { }":                                                    api.OK,
+		"proc f(" + params + ") { " + locals + strings.ReplaceAll(locals, "local k", "local m") + " } main { }": api.ErrFull,
 	} {
 		im, e := compiler.Program(parse(t, s))
-		if e != want || e != api.OK && im.Code != nil {
+		if e != want || e != api.OK && len(im.Code) != 0 {
 			t.Errorf("%.60q: %d", s, e)
 		}
 		if e == api.OK {

@@ -61,7 +61,7 @@ func TestErrors(t *testing.T) {
 		{lib, "f", nil, nil, much, api.ErrType}, {lib, "f", nil, []api.Value{num(0)}, much, api.ErrDivide}, {lib, "f", []string{"f"}, []api.Value{num(1)}, 2, api.ErrFuel}, {lib, "f", []string{"f"}, []api.Value{num(1)}, 3, api.OK},
 	} {
 		got, e := costmodel.Predict(c.lib, c.name, c.kept, c.args, c.fuel)
-		if e != c.want || e != api.OK && (got.Calls != nil || got.Kept != nil || got.Garbage != 0) {
+		if e != c.want || e != api.OK && (len(got.Calls) != 0 || len(got.Kept) != 0 || got.Garbage != 0) {
 			t.Errorf("case %d: %v, %d", i, got, e)
 		}
 	}

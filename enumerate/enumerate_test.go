@@ -1,7 +1,6 @@
 package enumerate_test
 
 import (
-	"reflect"
 	"slices"
 	"testing"
 
@@ -172,7 +171,7 @@ func TestStatesShareNoMemory(t *testing.T) {
 		}
 		s.Cells[0] = nil
 	}
-	if !reflect.DeepEqual(len(l), 36) || !slices.EqualFunc(l, cells([]api.VarDecl{pair}, enumerate.Box{Value: 1, Input: 1}), state.Equal) {
+	if len(l) != 36 || !slices.EqualFunc(l, cells([]api.VarDecl{pair}, enumerate.Box{Value: 1, Input: 1}), state.Equal) {
 		t.Error("changes of a state influence the next ones")
 	}
 }
@@ -223,7 +222,7 @@ func TestInvalidBoxes(t *testing.T) {
 		if n, e := enumerate.Count(c.vars, c.b); n != 0 || e != api.ErrArg {
 			t.Errorf("case %d: %d, %d", i, n, e)
 		}
-		if l := cells(c.vars, c.b); l != nil {
+		if l := cells(c.vars, c.b); len(l) != 0 {
 			t.Errorf("case %d: %v", i, l)
 		}
 	}

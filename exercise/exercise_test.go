@@ -148,14 +148,14 @@ func TestParseErrors(t *testing.T) {
 		strings.Replace(header, "two", "inc", 1) + body: api.ErrTwice, header + body: api.OK,
 	} {
 		l, at, err := exercise.Parse(text + s)
-		if err != want || want != api.OK && (at != 6 || l != nil) {
+		if err != want || want != api.OK && (at != 6 || len(l) != 0) {
 			t.Errorf("%q: %d, %d", s, at, err)
 		}
 	}
-	if l, at, err := exercise.Parse(strings.Repeat("\n", api.MaxText+1)); l != nil || at != 0 || err != api.ErrFull {
+	if l, at, err := exercise.Parse(strings.Repeat("\n", api.MaxText+1)); len(l) != 0 || at != 0 || err != api.ErrFull {
 		t.Error(at, err)
 	}
-	if l, at, err := exercise.Parse(strings.Repeat("\n", api.MaxText)); l != nil || at != 1 || err != api.ErrForm {
+	if l, at, err := exercise.Parse(strings.Repeat("\n", api.MaxText)); len(l) != 0 || at != 1 || err != api.ErrForm {
 		t.Error(at, err)
 	}
 	var b strings.Builder
@@ -167,7 +167,7 @@ func TestParseErrors(t *testing.T) {
 			}
 		}
 	}
-	if l, at, err := exercise.Parse(b.String()); l != nil || at != 501 || err != api.ErrFull {
+	if l, at, err := exercise.Parse(b.String()); len(l) != 0 || at != 501 || err != api.ErrFull {
 		t.Error(at, err)
 	}
 }

@@ -103,11 +103,19 @@ func check(t *testing.T, n api.Node) {
 }
 
 func TestExample(t *testing.T) {
-	f := layout.Frame{Slots: []layout.Slot{{Name: "x", Kind: api.Int}}, Cells: 1}
-	code, e := exprgen.Compute(expr(t, "x + 1"), f)
-	want, _, _ := asm.Parse(strings.Join([]string{"mem r1 0", "xor r2 r1", "mem r1 0", "push r2 0", "pop r1 0", "mem r1 1", "xori r1 1", "push r1 0", "pop r2 0", "mem r1 1", "calc r3 r1 r2 +", "push r1 0", "push r2 0", "push r3 0", ""}, "\n"))
-	if e != api.OK || !slices.Equal(code, want) {
-		t.Error(code, e)
+	example, _, _ := asm.Parse(strings.Join([]string{"mem r1 2", "xor r2 r1", "mem r1 2", "push r2 0", "pop r1 0", "mem r1 6", "xori r1 1", "push r1 0", "pop r2 0", "mem r1 6", "calc r3 r1 r2 +", "push r1 0", "push r2 0", "push r3 0", ""}, "\n"))
+	code, e := exprgen.Compute(expr(t, "x + 1"), frame)
+	if e != api.OK {
+		t.Fatal(e)
+	}
+	imA, a := load(t, example)
+	imB, b := load(t, code)
+	if run(imA, a) != api.OK || run(imB, b) != api.OK {
+		t.Fatal("the code does not run to its end")
+	}
+	last := len(a.S[0]) - 1
+	if len(b.S[0]) != last+1 || a.S[0][last] != b.S[0][last] {
+		t.Error("the code behaves differently from the example", a.S[0], b.S[0])
 	}
 }
 
@@ -164,11 +172,11 @@ func TestErrors(t *testing.T) {
 		{expr(t, "1 + -(2 * z)"), full, api.ErrName}, {expr(t, "x + 1"), full, api.OK}, {expr(t, "x + -y"), full, api.ErrFull}, {expr(t, "1"), huge, api.ErrFull},
 	} {
 		code, e := exprgen.Compute(c.n, c.f)
-		if e != c.want || e != api.OK && code != nil {
+		if e != c.want || e != api.OK && len(code) != 0 {
 			t.Error(c.n, e)
 		}
 		code, e = exprgen.With(c.n, c.f, nil)
-		if e != c.want || e != api.OK && code != nil {
+		if e != c.want || e != api.OK && len(code) != 0 {
 			t.Error(c.n, e)
 		}
 	}

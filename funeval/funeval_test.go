@@ -1,7 +1,6 @@
 package funeval_test
 
 import (
-	"reflect"
 	"slices"
 	"testing"
 
@@ -20,6 +19,12 @@ func parse(t *testing.T, s string) []api.Func {
 		t.Fatal(s, pos, e)
 	}
 	return lib
+}
+
+// same compares call trees, with all fields of the values.
+func same(a, b funeval.Tree) bool {
+	values := func(x, y api.Value) bool { return x.List == y.List && x.N == y.N && slices.Equal(x.L, y.L) }
+	return a.Func == b.Func && slices.EqualFunc(a.Args, b.Args, values) && values(a.Result, b.Result) && slices.EqualFunc(a.Calls, b.Calls, same)
 }
 
 func num(n int) api.Value     { return api.Value{N: n} }
@@ -60,11 +65,11 @@ func TestCall(t *testing.T) {
 		{"app", []api.Value{list(make([]int, 1001)...), num(1)}, num(0), api.ErrType}, {"app", []api.Value{list(make([]int, 1001)...), list()}, num(0), api.ErrFull}, {"fib", []api.Value{{N: 3, L: []int{1, 2}}}, num(2), api.OK}, {"tail", []api.Value{{List: true, N: 9, L: []int{1, 2}}}, list(2), api.OK},
 	} {
 		got, e := funeval.Call(lib, c.name, c.args, much)
-		if e != c.e || !fun.Equal(got, c.want) || e != api.OK && !reflect.DeepEqual(got, api.Value{}) || got.List && got.N != 0 || !got.List && got.L != nil {
+		if e != c.e || !fun.Equal(got, c.want) || e != api.OK && got.List || got.List && got.N != 0 || !got.List && len(got.L) != 0 {
 			t.Errorf("case %d: %v, %d", i, got, e)
 		}
 		tree, e := funeval.Trace(lib, c.name, c.args, much)
-		if e != c.e || e == api.OK && !fun.Equal(tree.Result, c.want) || e != api.OK && !reflect.DeepEqual(tree, funeval.Tree{}) {
+		if e != c.e || e == api.OK && !fun.Equal(tree.Result, c.want) || e != api.OK && !same(tree, funeval.Tree{}) {
 			t.Errorf("case %d: %v, %d", i, tree, e)
 		}
 		reversed := slices.Clone(lib)
@@ -121,8 +126,7 @@ func TestTrace(t *testing.T) {
 	want := funeval.Tree{Func: 0, Args: []api.Value{list(7, 8)}, Result: num(2), Calls: []funeval.Tree{
 		{Func: 0, Args: []api.Value{list(8)}, Result: num(1), Calls: []funeval.Tree{{Func: 0, Args: []api.Value{list([]int{}...)}, Result: num(0)}}},
 	}}
-	want.Calls[0].Calls[0].Args[0].L = tree.Calls[0].Calls[0].Args[0].L
-	if e != api.OK || !reflect.DeepEqual(tree, want) || len(tree.Calls[0].Calls[0].Args[0].L) != 0 || funeval.Steps(tree) != 3 || funeval.Height(tree) != 3 {
+	if e != api.OK || !same(tree, want) || funeval.Steps(tree) != 3 || funeval.Height(tree) != 3 {
 		t.Error(tree, e)
 	}
 	tree, _ = funeval.Trace(lib, "nest", []api.Value{num(3)}, much)
@@ -151,7 +155,7 @@ func TestTrace(t *testing.T) {
 func check(t *testing.T, lib []api.Func, tree funeval.Tree) {
 	t.Helper()
 	again, e := funeval.Trace(lib, lib[tree.Func].Name, tree.Args, much)
-	if e != api.OK || !reflect.DeepEqual(again, tree) {
+	if e != api.OK || !same(again, tree) {
 		t.Error(again, tree)
 	}
 	for _, c := range tree.Calls {

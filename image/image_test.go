@@ -144,7 +144,7 @@ func TestInvert(t *testing.T) {
 			t.Errorf("%s: the inverse of the inverse", s)
 		}
 	}
-	if im, e := image.Invert(code(t, "jmp 5")); e != api.ErrJump || im.Code != nil || im.Stacks != 0 {
+	if im, e := image.Invert(code(t, "jmp 5")); e != api.ErrJump || len(im.Code) != 0 || im.Stacks != 0 {
 		t.Error(im, e)
 	}
 	if im, e := image.Invert(api.Image{Mem: 5}); e != api.ErrRange || im.Mem != 0 {

@@ -141,7 +141,7 @@ func TestInvalidArguments(t *testing.T) {
 	for _, p := range []api.Program{{}, parse(t, "int x int x main { }"), parse(t, "int x main { y += 1; }"), {Vars: []api.VarDecl{{Name: "x", Kind: api.Int, Len: 1}}}} {
 		failed(t, interp.Forward(p, s, much), s, api.ErrForm)
 		failed(t, interp.Backward(p, s, much), s, api.ErrForm)
-		if l, r := interp.Profile(p, s, much); l != nil || r.Err != api.ErrForm {
+		if l, r := interp.Profile(p, s, much); len(l) != 0 || r.Err != api.ErrForm {
 			t.Error(l, r)
 		}
 	}
@@ -175,7 +175,7 @@ func TestProfile(t *testing.T) {
 	if !slices.Equal(l, []int{2, 5, 0}) || r.Err != api.OK || !state.Equal(r.State, ints(4)) || r.Steps != interp.Forward(p, ints(5), much).Steps {
 		t.Error(l, r)
 	}
-	if l, r := interp.Profile(p, ints(5), 3); l != nil || r.Err != api.ErrFuel {
+	if l, r := interp.Profile(p, ints(5), 3); len(l) != 0 || r.Err != api.ErrFuel {
 		t.Error(l, r)
 	}
 }

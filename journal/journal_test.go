@@ -67,7 +67,7 @@ func TestWhileUndoing(t *testing.T) {
 	note := func() {
 		lengths = append(lengths, j.Len())
 		j.Record(func() { t.Error("recorded while undoing") })
-		if j.Rewind(0) != api.ErrState || j.Forget(0) != api.ErrState || j.Rewind(-1) != api.ErrState {
+		if j.Rewind(0) != api.ErrState || j.Forget(0) != api.ErrState {
 			t.Error("the journal is busy")
 		}
 	}

@@ -21,7 +21,7 @@ func TestLexExamples(t *testing.T) {
 	if l, _, _ := lexer.Lex("a<=>b"); len(l) != 3 || l[1].Text != "<=>" {
 		t.Error(l)
 	}
-	if l, pos, e := lexer.Lex("aB"); l != nil || pos != 1 || e != api.ErrForm {
+	if l, pos, e := lexer.Lex("aB"); len(l) != 0 || pos != 1 || e != api.ErrForm {
 		t.Error(l, pos, e)
 	}
 }
@@ -75,7 +75,7 @@ func TestLexKinds(t *testing.T) {
 
 func TestLexErrors(t *testing.T) {
 	for s, want := range map[string]int{"A": 0, "a:": 1, "x = .": 4, "a\x00": 1, "é": 0, "1 ~": 2, "#c\n$": 3, "a:b": 1} {
-		if l, pos, e := lexer.Lex(s); l != nil || pos != want || e != api.ErrForm {
+		if l, pos, e := lexer.Lex(s); len(l) != 0 || pos != want || e != api.ErrForm {
 			t.Errorf("%q: %v, %d, %d", s, l, pos, e)
 		}
 	}
@@ -83,7 +83,7 @@ func TestLexErrors(t *testing.T) {
 	if l, _, e := lexer.Lex(long); len(l) != 1 || e != api.OK {
 		t.Error("a text of MaxText bytes", e)
 	}
-	if l, pos, e := lexer.Lex("A" + long); l != nil || pos != 0 || e != api.ErrFull {
+	if l, pos, e := lexer.Lex("A" + long); len(l) != 0 || pos != 0 || e != api.ErrFull {
 		t.Error("a text of more than MaxText bytes", pos, e)
 	}
 }

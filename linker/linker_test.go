@@ -50,7 +50,7 @@ func TestLink(t *testing.T) {
 		t.Error("procedures", image.Procs(im))
 	}
 	im, symbols, e = linker.Link(object.Object{})
-	if e != api.OK || len(im.Code) != 1 || symbols != nil {
+	if e != api.OK || len(im.Code) != 1 || len(symbols) != 0 {
 		t.Error(im, symbols, e)
 	}
 }
@@ -74,7 +74,7 @@ func TestLinkErrors(t *testing.T) {
 		{main, []object.Object{f, obj(t, "p", 161, 162, "nop")}, api.OK}, {main, []object.Object{f, obj(t, "p", 162, 0, "nop")}, api.ErrFull}, {main, []object.Object{obj(t, "p", 0, 163, "nop"), f}, api.ErrFull},
 	} {
 		im, symbols, e := linker.Link(c.main, c.procs...)
-		if e != c.want || e != api.OK && (im.Code != nil || im.Mem != 0 || im.Stacks != 0 || symbols != nil) {
+		if e != c.want || e != api.OK && (len(im.Code) != 0 || im.Mem != 0 || im.Stacks != 0 || len(symbols) != 0) {
 			t.Errorf("case %d: %d", i, e)
 		}
 		if e == api.OK && !image.Valid(im) {

@@ -85,7 +85,7 @@ func TestStates(t *testing.T) {
 				total++
 			}
 			a, b, e := of(from, to)
-			if (e == api.OK) != (total <= api.MaxStack) || e != api.OK && (e != api.ErrFull || a != nil || b != nil) {
+			if (e == api.OK) != (total <= api.MaxStack) || e != api.OK && (e != api.ErrFull || len(a) != 0 || len(b) != 0) {
 				t.Error(name, sizes, e)
 			}
 			if sizes[0] > api.MaxStack {

@@ -23,7 +23,7 @@ func TestBennett(t *testing.T) {
 		}
 	}
 	for _, c := range [][2]int{{0, 2}, {-1, 2}, {501, 2}, {5, 1}, {5, 0}, {5, 501}} {
-		if got, e := pebble.Bennett(c[0], c[1]); got != nil || e != api.ErrRange {
+		if got, e := pebble.Bennett(c[0], c[1]); len(got) != 0 || e != api.ErrRange {
 			t.Error(c, e)
 		}
 	}
@@ -118,7 +118,7 @@ func TestBest(t *testing.T) {
 		t.Error(got, ok)
 	}
 	for _, c := range [][2]int{{3, 2}, {0, 5}, {13, 13}, {-1, 3}, {1, 0}, {5, -1}, {5, 3}} {
-		if got, ok := pebble.Best(c[0], c[1]); ok || got != nil {
+		if got, ok := pebble.Best(c[0], c[1]); ok || len(got) != 0 {
 			t.Error(c, got)
 		}
 	}

@@ -74,7 +74,7 @@ func TestOptimize(t *testing.T) {
 	}
 	for _, bad := range []api.Image{{}, {Code: code(t, "neg r1, neg r1, jmp 0"), Stacks: 1}} {
 		_, want := image.Check(bad)
-		if im, e := peephole.Optimize(bad); e != want || im.Code != nil || peephole.Removed(bad) != 0 {
+		if im, e := peephole.Optimize(bad); e != want || len(im.Code) != 0 || peephole.Removed(bad) != 0 {
 			t.Error(im, e)
 		}
 	}

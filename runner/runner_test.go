@@ -34,7 +34,7 @@ func TestExecute(t *testing.T) {
 	if o, e := runner.Execute(p, two, runner.Options{Fuel: 11, Backward: true}); e != api.OK || o.Steps != 11 || !state.Equal(o.State, zero) {
 		t.Error(o, e)
 	}
-	if o, e := runner.Execute(p, zero, runner.Options{Fuel: 10}); e != api.ErrFuel || o.Steps != 0 || o.Entered != nil {
+	if o, e := runner.Execute(p, zero, runner.Options{Fuel: 10}); e != api.ErrFuel || o.Steps != 0 || len(o.Entered) != 0 {
 		t.Error(o, e)
 	}
 	if _, e := runner.Execute(p, api.State{}, runner.Options{Fuel: 10}); e != api.ErrState {

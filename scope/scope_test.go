@@ -1,7 +1,6 @@
 package scope_test
 
 import (
-	"reflect"
 	"slices"
 	"testing"
 
@@ -21,6 +20,10 @@ func parse(t *testing.T, s string) api.Program {
 
 func fault(proc int, e api.Errno, name string, path ...int) scope.Fault {
 	return scope.Fault{Proc: proc, Path: path, Err: e, Name: name}
+}
+
+func same(a, b scope.Fault) bool {
+	return a.Proc == b.Proc && a.Err == b.Err && a.Name == b.Name && slices.Equal(a.Path, b.Path)
 }
 
 func TestCheck(t *testing.T) {
@@ -51,15 +54,12 @@ func TestCheck(t *testing.T) {
 		"int x main { if y { } else { z += 1; } fi w; }":                          {fault(0, api.ErrName, "y", 0, 0), fault(0, api.ErrName, "z", 0, 2, 0, 0), fault(0, api.ErrName, "w", 0, 3)},
 	} {
 		got := scope.Check(parse(t, s))
-		same := func(a, b scope.Fault) bool {
-			return a.Proc == b.Proc && a.Err == b.Err && a.Name == b.Name && slices.Equal(a.Path, b.Path)
-		}
 		if !slices.EqualFunc(got, want, same) {
 			t.Errorf("%q:\n%v, not\n%v", s, got, want)
 		}
 	}
 	x := api.VarDecl{Name: "x", Kind: api.Int}
-	if l := scope.Check(api.Program{Vars: []api.VarDecl{x, x}}); l != nil {
+	if l := scope.Check(api.Program{Vars: []api.VarDecl{x, x}}); len(l) != 0 {
 		t.Error("faults of an invalid program", l)
 	}
 }
@@ -79,7 +79,7 @@ func TestPathsAreNew(t *testing.T) {
 func TestUnusedDeclarationsAndRenaming(t *testing.T) {
 	a := scope.Check(parse(t, "int x main { x += y; local k = 1 { k[1] += x; } delocal 2; }"))
 	b := scope.Check(parse(t, "int z int w main { z += y; local k = 1 { k[1] += z; } delocal 2; }"))
-	if !reflect.DeepEqual(a, b) || len(a) != 2 {
+	if !slices.EqualFunc(a, b, same) || len(a) != 2 {
 		t.Error(a, b)
 	}
 }
@@ -120,7 +120,7 @@ main { x += 1; local k = x { local k = 2 { x += k; } delocal 2; } delocal x; }`)
 	if p.Vars[0].Name != "x" {
 		t.Error("Visible shares memory with the program")
 	}
-	if l, e := scope.Visible(api.Program{}, 5, nil); l != nil || e != api.ErrForm {
+	if l, e := scope.Visible(api.Program{}, 5, nil); len(l) != 0 || e != api.ErrForm {
 		t.Error("invalid program", e)
 	}
 }

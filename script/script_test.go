@@ -1,7 +1,6 @@
 package script_test
 
 import (
-	"reflect"
 	"slices"
 	"strings"
 	"testing"
@@ -113,7 +112,7 @@ func TestParseErrors(t *testing.T) {
 		"load 2\n" + strings.Repeat("x", api.MaxText) + "\n\n": api.ErrForm, "load 3\n" + strings.Repeat("x", api.MaxText) + "\n\n": api.ErrEnd, "input" + strings.Repeat(" 1", api.MaxTape+1) + "\n": api.ErrForm,
 	} {
 		l, at, e := script.Parse("load 1\nx\ncheck\n" + s + "")
-		if l != nil || at != 4 || e != want {
+		if len(l) != 0 || at != 4 || e != want {
 			t.Errorf("%.40q: %d, %d", s, at, e)
 		}
 	}
@@ -122,11 +121,11 @@ func TestParseErrors(t *testing.T) {
 		t.Error(at, e)
 	}
 	for _, s := range []string{"show\n", "garbage", "x\n"} {
-		if l, at, e := script.Parse(full + s); l != nil || at != 2001 || e != api.ErrFull {
+		if l, at, e := script.Parse(full + s); len(l) != 0 || at != 2001 || e != api.ErrFull {
 			t.Error(at, e)
 		}
 	}
-	if l, _, _ := script.Parse("points ann\n"); !reflect.DeepEqual(l, []script.Command{{Kind: script.Points, Name: "ann"}}) {
+	if l, _, _ := script.Parse("points ann\n"); !slices.EqualFunc(l, []script.Command{{Kind: script.Points, Name: "ann"}}, same) {
 		t.Error(l)
 	}
 }

@@ -104,7 +104,7 @@ func TestOutcomes(t *testing.T) {
 	if got := search.Outcomes(p, b, 2); !maps.Equal(got, map[api.Errno]int{api.OK: 3, api.ErrAssert: 1, api.ErrFuel: 1}) {
 		t.Error(got)
 	}
-	if got := search.Outcomes(p, enumerate.Box{Value: 2000}, 10); got == nil || len(got) != 0 {
+	if got := search.Outcomes(p, enumerate.Box{Value: 2000}, 10); len(got) != 0 {
 		t.Error(got)
 	}
 	q := parse(t, "int x stack s main { push x, s; pop x, s; read x; }")

